@@ -1,0 +1,1 @@
+"""Helpedcalls: objects that threads share."""
