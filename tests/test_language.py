@@ -64,6 +64,19 @@ def bound_names(tree):
             yield node.name, node.lineno
 
 
+def stored_attributes(tree):
+    """The names of the attributes that are assigned in a class or a file, with their lines."""
+    for node in ast.walk(tree):
+        if isinstance(node, ast.Attribute) and isinstance(node.ctx, ast.Store):
+            yield node.attr, node.lineno
+
+
+def defined_names(tree):
+    """The functions, classes and plain values that stand in a file itself."""
+    names = [part.name for part in tree.body if isinstance(part, FUNCTIONS + (ast.ClassDef,))]
+    return names + [target.id for part in tree.body if isinstance(part, ast.Assign) for target in part.targets]
+
+
 def imported_files(tree):
     return [node.module for node in tree.body if isinstance(node, ast.ImportFrom)]
 
@@ -99,9 +112,8 @@ class Language(unittest.TestCase):
                 if node.level or not (node.module or "").startswith("helpedcalls.") or not source.is_file():
                     yield ("from", node.lineno)
                     continue
-                defined = [part.name for part in ast.parse(source.read_text()).body if hasattr(part, "name")]
                 for alias in node.names:
-                    if alias.name not in defined or alias.asname:
+                    if alias.name not in defined_names(ast.parse(source.read_text())) or alias.asname:
                         yield (alias.name, node.lineno)
             if top != sorted(top, reverse=True):
                 yield ("imports stand below",)
@@ -141,6 +153,45 @@ class Language(unittest.TestCase):
                     yield (type(node).__name__, node.lineno)
                 if isinstance(node, FUNCTIONS + (ast.ClassDef,)) and node.decorator_list:
                     yield ("decorator", node.lineno)
+        self.each(wrong)
+
+    def test_l5_and_l18_classes(self):
+        def wrong(path, tree):
+            for node in ast.walk(tree):
+                if not isinstance(node, ast.ClassDef):
+                    continue
+                methods = [part.name for part in node.body if isinstance(part, FUNCTIONS)]
+                stored = {name for name, _ in stored_attributes(node)}
+                if len(set(methods)) != len(methods) or stored & set(methods):
+                    yield (node.name, "one meaning for each name")
+                if any(name.startswith("__") and name != "__init__" for name in methods):
+                    yield (node.name, "double underscores")
+                if len(node.bases) > 1 or node.keywords:
+                    yield (node.name, "bases")
+            for node in ast.walk(tree):
+                if isinstance(node, ast.Attribute) and isinstance(node.ctx, ast.Store):
+                    if not isinstance(node.value, ast.Name):
+                        yield (node.attr, node.lineno)
+        self.each(wrong)
+
+    def test_l18_attributes_that_are_read_are_assigned_somewhere(self):
+        known = {name for _, tree in trees() for name, _ in stored_attributes(tree)}
+
+        def wrong(path, tree):
+            called = [node.func for node in ast.walk(tree) if isinstance(node, ast.Call)]
+            for node in ast.walk(tree):
+                if isinstance(node, ast.Attribute) and node not in called and node.attr not in known:
+                    yield (node.attr, node.lineno)
+        self.each(wrong)
+
+    def test_l26_attributes_have_no_names_of_builtin_values(self):
+        free = {"count", "index", "title", "find", "get", "join", "lower", "upper", "split", "strip", "copy", "add"}
+        taken = {name for value in (0, "", [], (), {}, set(), b"") for name in dir(value)} - free
+
+        def wrong(path, tree):
+            for name, line in stored_attributes(tree):
+                if name in taken:
+                    yield (name, line)
         self.each(wrong)
 
     def test_l7_no_floats_and_no_division(self):
@@ -225,6 +276,69 @@ class Language(unittest.TestCase):
                         yield ("is", node.lineno)
         self.each(wrong)
 
+    def test_l22_keywords_of_builtins(self):
+        free = {"sorted": ("key", "reverse"), "min": ("key", "default"), "max": ("key", "default"),
+                "sum": ("start",), "enumerate": ("start",), "zip": ("strict",)}
+
+        def wrong(path, tree):
+            for node in ast.walk(tree):
+                if isinstance(node, ast.Call) and isinstance(node.func, ast.Name) and node.func.id in USED_BUILTINS:
+                    for told in node.keywords:
+                        if told.arg not in free.get(node.func.id, ()):
+                            yield (node.func.id, node.lineno)
+        self.each(wrong)
+
+    def test_l23_what_is_iterated_at_once(self):
+        takers = "list tuple dict sorted sum any all enumerate zip min max".split()
+
+        def iterated(tree):
+            for node in ast.walk(tree):
+                if isinstance(node, (ast.For, ast.comprehension)):
+                    yield node.iter
+                if isinstance(node, ast.Call) and isinstance(node.func, ast.Name) and node.func.id in takers:
+                    yield from node.args
+
+        def wrong(path, tree):
+            held = list(iterated(tree))
+            for node in ast.walk(tree):
+                if not isinstance(node, ast.Call) or node in held:
+                    continue
+                # A range may be kept.
+                if isinstance(node.func, ast.Name) and node.func.id in ("zip", "enumerate", "reversed"):
+                    yield (node.func.id, node.lineno)
+                if isinstance(node.func, ast.Attribute) and node.func.attr in ("items", "keys", "values"):
+                    yield (node.func.attr, node.lineno)
+        self.each(wrong)
+
+    def test_l23_no_loop_changes_what_it_iterates_over(self):
+        changing = "append clear extend insert pop remove reverse setdefault update add discard sort".split()
+
+        def wrong(path, tree):
+            for loop in ast.walk(tree):
+                if not isinstance(loop, ast.For):
+                    continue
+                over = {ast.unparse(part) for part in ast.walk(loop.iter) if isinstance(part, (ast.Name, ast.Attribute))}
+                for node in [node for row in loop.body for node in ast.walk(row)]:
+                    if isinstance(node, ast.Call) and isinstance(node.func, ast.Attribute):
+                        if node.func.attr in changing and ast.unparse(node.func.value) in over:
+                            yield (ast.unparse(node), node.lineno)
+                    if isinstance(node, ast.Subscript) and isinstance(node.ctx, (ast.Store, ast.Del)):
+                        if ast.unparse(node.value) in over:
+                            yield (ast.unparse(node), node.lineno)
+        self.each(wrong)
+
+    def test_l24_no_frozen_sets_and_no_loops_over_sets(self):
+        def wrong(path, tree):
+            for node in ast.walk(tree):
+                if isinstance(node, ast.Name) and node.id == "frozenset":
+                    yield ("frozenset", node.lineno)
+                if isinstance(node, (ast.For, ast.comprehension)):
+                    over = node.iter
+                    called = isinstance(over, ast.Call) and isinstance(over.func, ast.Name) and over.func.id == "set"
+                    if called or isinstance(over, (ast.Set, ast.SetComp)):
+                        yield ("loop over a set", over.lineno)
+        self.each(wrong)
+
     def test_l25_methods_of_builtin_values(self):
         own = {node.name for _, tree in trees() for node in ast.walk(tree) if isinstance(node, FUNCTIONS)}
 
@@ -256,6 +370,11 @@ class Interface(unittest.TestCase):
         told = {
             "objects": "is_object is_call calls states first_state applied replayed",
             "telling": "is_silent commute always_commute alike can_tell class_count parting tellings",
+            "histories": "is_history shows_order shows_in_step spans whole written explained in_step order_count "
+                         "first_wrong",
+            "several": "is_wide_history shows_all in_step_all parts woven explained_all",
+            "shared": "history_of own_steps state_behind going applied_order alone bound starving standing_count "
+                      "most_steps outcomes last_states bad_weaving",
             "errors": "SharedError BadObject BadCall BadState BadPair BadHistory BadPlans BadWeaving BadProgram "
                       "BadOrders TooMany",
         }
@@ -270,11 +389,21 @@ class Interface(unittest.TestCase):
             "applied": "thing state call", "replayed": "thing row", "is_silent": "thing call",
             "commute": "thing state one other", "always_commute": "thing one other", "alike": "one other",
             "can_tell": "thing", "class_count": "thing", "parting": "one other", "tellings": "thing",
+            "is_history": "thing value", "shows_order": "thing history value", "shows_in_step": "thing history value",
+            "spans": "thing history", "whole": "thing row", "written": "thing history", "explained": "thing history",
+            "in_step": "thing history", "order_count": "thing history", "first_wrong": "thing history",
+            "is_wide_history": "things value", "shows_all": "things history value", "in_step_all": "things history",
+            "parts": "things history", "woven": "things history orders", "explained_all": "things history",
+            "alone": "way thing plans weaving thread", "bound": "many", "starving": "thing call other many",
         }
+        for name in "history_of own_steps state_behind going applied_order".split():
+            told[name] = "way thing plans weaving"
+        for name in "standing_count most_steps outcomes last_states bad_weaving".split():
+            told[name] = "way thing plans"
         found = {}
-        for stem in ("objects", "telling"):
+        for stem in ("objects", "telling", "histories", "several", "shared"):
             for node in ast.parse((PACKAGE / f"{stem}.py").read_text()).body:
-                if isinstance(node, ast.FunctionDef) and node.name in told:
+                if isinstance(node, ast.FunctionDef) and not node.name.startswith("_"):
                     found[node.name] = " ".join(part.arg for part in node.args.args)
         self.assertEqual(found, told)
 

@@ -3,13 +3,44 @@
 import copy
 import unittest
 
-from helpedcalls import objects, telling
-from helpedcalls.errors import BadCall, BadObject, BadPair, BadState
+from helpedcalls import histories, objects, several, shared, telling
+from helpedcalls.errors import (
+    BadCall, BadHistory, BadObject, BadOrders, BadPair, BadPlans, BadState, BadWeaving, SharedError,
+)
 from helpedcalls.values import are_within, is_integer, is_within, same
 from tests.examples import EqualToAll, OBJECTS
 
 ODD = ("heap", 1)
 COUNTER = ("counter", 3)
+ADD, LOOK = ("add", 1), ("look",)
+HISTORY = (("call", 0, ADD), ("call", 1, LOOK), ("answer", 1, 1))
+THINGS = (COUNTER, ("stack", 1, 1))
+WIDE = (("call", 0, 0, ADD), ("call", 1, 1, ("push", 0)), ("answer", 1, 1, True))
+PLANS, WEAVING = ((ADD,), (LOOK, ADD)), (0, 1, 1, 0)
+
+# Every function of points 4 to 10 with fitting arguments.
+FITTING = [
+    (histories.is_history, (COUNTER, HISTORY)), (histories.spans, (COUNTER, HISTORY)),
+    (histories.whole, (COUNTER, ((0, ADD), (1, LOOK)))), (histories.written, (COUNTER, HISTORY)),
+    (histories.shows_order, (COUNTER, HISTORY, (0, 1))), (histories.order_count, (COUNTER, HISTORY)),
+    (histories.first_wrong, (COUNTER, HISTORY)), (histories.shows_in_step, (COUNTER, HISTORY, (0, 1))),
+    (several.is_wide_history, (THINGS, WIDE)), (several.parts, (THINGS, WIDE)),
+    (several.shows_all, (THINGS, WIDE, (0, 1))), (several.in_step_all, (THINGS, WIDE)),
+] + [
+    (function, ("retried", COUNTER, PLANS, WEAVING)) for function in (
+        shared.history_of, shared.own_steps, shared.state_behind, shared.going, shared.applied_order)
+] + [
+    (function, (way, COUNTER, PLANS)) for way in ("helped", "retried", "locked", "naive") for function in (
+        shared.standing_count, shared.most_steps, shared.outcomes, shared.last_states, shared.bad_weaving)
+] + [
+    (shared.alone, ("locked", COUNTER, PLANS, WEAVING, 1)), (shared.bound, (3,)),
+    (shared.starving, (COUNTER, ADD, LOOK, 3)),
+]
+# Any such value may come from these, and not always the same one.
+ANY_SUCH = [
+    (histories.explained, (COUNTER, HISTORY)), (histories.in_step, (COUNTER, HISTORY)),
+    (several.explained_all, (THINGS, WIDE)), (several.woven, (THINGS, WIDE, ((), (0,)))),
+]
 
 
 class Integers(unittest.TestCase):
@@ -69,6 +100,34 @@ class Arguments(unittest.TestCase):
                 self.assertTrue(same(function(thing), function(twin)))
             self.assertEqual(telling.tellings(thing), telling.tellings(twin))
 
+    def test_equal_arguments_have_equal_answers_of_histories_and_weavings(self):
+        for function, told in FITTING:
+            first = function(*told)
+            for _ in range(2):
+                self.assertTrue(same(function(*copy.deepcopy(told)), first), function.__name__)
+            # The answer is not one that a call between can change.
+            for other, row in FITTING:
+                other(*row)
+            self.assertTrue(same(function(*told), first), function.__name__)
+        for function, told in ANY_SUCH:
+            self.assertIsNotNone(function(*told), function.__name__)
+
+    def test_lists_are_not_changed_where_tuples_are_taken(self):
+        def listed(value):
+            return [listed(part) for part in value] if isinstance(value, tuple) else value
+
+        for function, told in FITTING + ANY_SUCH:
+            for place, value in enumerate(told):
+                if isinstance(value, tuple):
+                    row = list(told)
+                    row[place] = listed(value)
+                    kept = copy.deepcopy(row)
+                    try:
+                        function(*row)
+                    except SharedError:
+                        pass
+                    self.assertEqual(row, kept, function.__name__)
+
     def test_answers_that_are_lists_are_new_ones(self):
         found = telling.tellings(COUNTER)
         found.clear()
@@ -110,6 +169,25 @@ class Arguments(unittest.TestCase):
             (BadObject, telling.alike, (ODD, ("counter", 2))),
             (BadObject, telling.alike, (COUNTER, ODD)),
             (BadPair, telling.alike, (COUNTER, ("counter", 2))),
+            (BadObject, histories.is_history, (ODD, None)),
+            (BadObject, histories.spans, (ODD, None)),
+            (BadObject, histories.whole, (ODD, None)),
+            (BadHistory, histories.shows_order, (COUNTER, None, None)),
+            (BadHistory, histories.shows_in_step, (COUNTER, [], (9,))),
+            (BadObject, several.is_wide_history, ((), None)),
+            (BadObject, several.woven, ((COUNTER, ODD), None, None)),
+            (BadHistory, several.woven, (THINGS, None, None)),
+            (BadOrders, several.woven, (THINGS, WIDE, None)),
+            (BadHistory, several.shows_all, (THINGS, (None,), None)),
+            (BadObject, shared.alone, ("helped", ODD, None, None, 0)),
+            (BadPlans, shared.alone, ("helped", COUNTER, None, None, 0)),
+            (BadWeaving, shared.alone, ("helped", COUNTER, PLANS, None, 0)),
+            (BadObject, shared.outcomes, ("helped", ODD, None)),
+            (BadPlans, shared.outcomes, ("helped", COUNTER, ((bad,),))),
+            (BadObject, shared.starving, (ODD, bad, bad, 9)),
+            (BadCall, shared.starving, (COUNTER, bad, LOOK, 9)),
+            (BadCall, shared.starving, (COUNTER, LOOK, bad, 9)),
+            (BadPlans, shared.starving, (COUNTER, LOOK, LOOK, 9)),
         ):
             with self.subTest(function=function.__name__, told=told), self.assertRaises(error):
                 function(*told)

@@ -1,0 +1,67 @@
+"""All standings that few plans meet, over all weavings (point 10)."""
+
+from helpedcalls.checks import check_object
+from helpedcalls.plans import check_few_plans
+from helpedcalls.ways import first_standing, has_step, stepped
+
+
+class Move:
+    """A step at a standing: its thread, the place of the standing behind it, and its events."""
+
+    def __init__(self, thread, behind, events):
+        self.thread = thread
+        self.behind = behind
+        self.events = events
+
+    def ends(self):
+        """Whether a call ends by the step."""
+        return len(self.events) > 0 and self.events[-1][0] == "answer"
+
+
+class Standings:
+    """The standings in the order of their coming, the first one too, and for each of them the list of its moves."""
+
+    def __init__(self, way, thing, plans):
+        self.rows = [first_standing(way, thing, plans)]
+        self.moves = []
+        places = {self.rows[0]: 0}
+        while len(self.moves) < len(self.rows):
+            standing = self.rows[len(self.moves)]
+            row = []
+            for thread in range(len(plans)):
+                if has_step(plans, standing, thread):
+                    behind, events, _ = stepped(way, thing, plans, standing, thread)
+                    if behind not in places:
+                        places[behind] = len(self.rows)
+                        self.rows.append(behind)
+                    row.append(Move(thread, places[behind], events))
+            self.moves.append(row)
+
+    def in_sequence(self):
+        """The places of the standings, each one behind all from which a move leads to it.
+
+        There are such, for no moves lead back to a standing but those that leave it as it is, which do not count.
+        """
+        waiting = [0] * len(self.rows)
+        for at, row in enumerate(self.moves):
+            for move in row:
+                if move.behind != at:
+                    waiting[move.behind] += 1
+        found = [0]
+        done = 0
+        while done < len(found):
+            at = found[done]
+            for move in self.moves[at]:
+                if move.behind != at:
+                    waiting[move.behind] -= 1
+                    if waiting[move.behind] == 0:
+                        found.append(move.behind)
+            done += 1
+        return found
+
+
+def met(way, thing, plans):
+    """The standings of few plans; the error of the first wrong argument if one is wrong."""
+    check_object(thing)
+    check_few_plans(thing, plans)
+    return Standings(way, thing, plans)
