@@ -1,6 +1,7 @@
 """Reading a history event by event: in which ways the calls begun may have been done so far."""
 
 from helpedcalls.events import THREADS
+from helpedcalls.paths import path_to
 from helpedcalls.steps import start, step
 from helpedcalls.values import same
 
@@ -30,6 +31,12 @@ class Judge:
         if word == "call":
             return self.keep(_spread(self.thing, [_marked(guess, thread, (told,)) for guess in guesses]))
         return self.keep([_marked(guess, thread, None) for guess in guesses if _has_heard(guess[1][thread], told)])
+
+    def hear_all(self, kept, events):
+        """What is kept behind more events."""
+        for event in events:
+            kept = self.hear(kept, event)
+        return kept
 
     def keep(self, guesses):
         """The ascending numbers of guesses."""
@@ -65,3 +72,35 @@ def _spread(thing, guesses):
                     found.append(guess)
         at += 1
     return found
+
+
+def first_bad(thing, moves):
+    """The shortest weaving, the first of these in order, whose history no order explains, None if there is none.
+
+    The moves of each standing stand by their threads; the weaving begins at the first standing.
+    """
+    judge = Judge(thing)
+    nodes = [(0, judge.first())]
+    came = [None]
+    met = [[] for _ in moves]
+    met[0].append(_bits(nodes[0][1]))
+    at = 0
+    # Nodes come by length, then by order of their paths, so the first one that is wrong ends the weaving asked for.
+    while at < len(nodes):
+        place, kept = nodes[at]
+        for move in moves[place]:
+            left = judge.hear_all(kept, move.events)
+            if len(left) == 0:
+                return path_to(came, at) + (move.thread,)
+            bits = _bits(left)
+            # Where guesses that came earlier are all among these, whatever is wrong here was wrong there first.
+            if not any([(earlier & bits) == earlier for earlier in met[move.behind]]):
+                met[move.behind].append(bits)
+                nodes.append((move.behind, left))
+                came.append((at, move.thread))
+        at += 1
+    return None
+
+
+def _bits(numbers):
+    return sum([1 << number for number in numbers])

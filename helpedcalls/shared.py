@@ -2,7 +2,7 @@
 
 from helpedcalls.checks import check_call, check_object
 from helpedcalls.errors import BadPlans
-from helpedcalls.judging import Judge
+from helpedcalls.judging import first_bad
 from helpedcalls.runs import ran
 from helpedcalls.standings import met
 from helpedcalls.steps import reached
@@ -157,23 +157,4 @@ def last_states(way, thing, plans):
 
 def bad_weaving(way, thing, plans):
     """The shortest weaving, the first of these in order, whose history no order explains, None if there is none."""
-    standings = met(way, thing, plans)
-    judge = Judge(thing)
-    nodes = [(0, judge.first())]
-    paths = {nodes[0]: ()}
-    at = 0
-    # Nodes come by length, then by order of their paths, so the first one that is wrong ends the weaving asked for.
-    while at < len(nodes):
-        place, kept = nodes[at]
-        for move in standings.moves[place]:
-            path = paths[nodes[at]] + (move.thread,)
-            left = kept
-            for event in move.events:
-                left = judge.hear(left, event)
-            if len(left) == 0:
-                return path
-            if (move.behind, left) not in paths:
-                paths[(move.behind, left)] = path
-                nodes.append((move.behind, left))
-        at += 1
-    return None
+    return first_bad(thing, met(way, thing, plans).moves)

@@ -1,8 +1,9 @@
-"""All standings that few plans meet, over all weavings (point 10)."""
+"""All standings that few plans meet, over all weavings (points 10 and 12)."""
 
 from helpedcalls.checks import check_object
+from helpedcalls.errors import TooMany
 from helpedcalls.plans import check_few_plans
-from helpedcalls.ways import first_standing, has_step, stepped
+from helpedcalls.ways import first_standing, steps_at
 
 
 class Move:
@@ -19,23 +20,26 @@ class Move:
 
 
 class Standings:
-    """The standings in the order of their coming, the first one too, and for each of them the list of its moves."""
+    """The standings in the order of their coming, the first one too, and for each of them the list of its moves.
 
-    def __init__(self, way, thing, plans):
-        self.rows = [first_standing(way, thing, plans)]
+    The function follow tells of a standing the triples (thread, standing behind its step, events of the step).
+    """
+
+    def __init__(self, first, follow, most):
+        self.rows = [first]
         self.moves = []
-        places = {self.rows[0]: 0}
+        places = {first: 0}
         while len(self.moves) < len(self.rows):
-            standing = self.rows[len(self.moves)]
             row = []
-            for thread in range(len(plans)):
-                if has_step(plans, standing, thread):
-                    behind, events, _ = stepped(way, thing, plans, standing, thread)
-                    if behind not in places:
-                        places[behind] = len(self.rows)
-                        self.rows.append(behind)
-                    row.append(Move(thread, places[behind], events))
+            steps = follow(self.rows[len(self.moves)])
+            for thread, behind, events in steps:
+                if behind not in places:
+                    places[behind] = len(self.rows)
+                    self.rows.append(behind)
+                row.append(Move(thread, places[behind], events))
             self.moves.append(row)
+            if most is not None and len(self.rows) > most:
+                raise TooMany(most)
 
     def in_sequence(self):
         """The places of the standings, each one behind all from which a move leads to it.
@@ -64,4 +68,4 @@ def met(way, thing, plans):
     """The standings of few plans; the error of the first wrong argument if one is wrong."""
     check_object(thing)
     check_few_plans(thing, plans)
-    return Standings(way, thing, plans)
+    return Standings(first_standing(way, thing, plans), lambda standing: steps_at(way, thing, plans, standing), None)

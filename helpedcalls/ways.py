@@ -139,3 +139,9 @@ def stepped(way, thing, plans, standing, thread):
         events = [("call", thread, call)] + events
     row = (number + len(answers), then, held)
     return ((cells, _with_item(rows, thread, row)), tuple(events), applied)
+
+
+def steps_at(way, thing, plans, standing):
+    """The triples (thread, standing behind its step, events of the step) of the threads that have a step."""
+    threads = [thread for thread in range(len(plans)) if has_step(plans, standing, thread)]
+    return [(thread,) + stepped(way, thing, plans, standing, thread)[:2] for thread in threads]

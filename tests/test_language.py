@@ -375,6 +375,10 @@ class Interface(unittest.TestCase):
             "several": "is_wide_history shows_all in_step_all parts woven explained_all",
             "shared": "history_of own_steps state_behind going applied_order alone bound starving standing_count "
                       "most_steps outcomes last_states bad_weaving",
+            "programs": "is_program cell_count method_names",
+            "coded": "code_history cells_behind code_count code_bad",
+            "ending": "each_alone somebody everybody silent_ring starving_ring shows_silent shows_starving",
+            "samples": "sample report",
             "errors": "SharedError BadObject BadCall BadState BadPair BadHistory BadPlans BadWeaving BadProgram "
                       "BadOrders TooMany",
         }
@@ -395,13 +399,19 @@ class Interface(unittest.TestCase):
             "is_wide_history": "things value", "shows_all": "things history value", "in_step_all": "things history",
             "parts": "things history", "woven": "things history orders", "explained_all": "things history",
             "alone": "way thing plans weaving thread", "bound": "many", "starving": "thing call other many",
+            "is_program": "thing value", "cell_count": "thing text", "method_names": "thing text",
+            "code_history": "thing text plans weaving", "cells_behind": "thing text plans weaving",
+            "starving_ring": "thing text plans thread", "shows_silent": "thing text plans value",
+            "shows_starving": "thing text plans thread value", "sample": "name",
         }
+        for name in "code_count code_bad each_alone somebody everybody silent_ring report".split():
+            told[name] = "thing text plans"
         for name in "history_of own_steps state_behind going applied_order".split():
             told[name] = "way thing plans weaving"
         for name in "standing_count most_steps outcomes last_states bad_weaving".split():
             told[name] = "way thing plans"
         found = {}
-        for stem in ("objects", "telling", "histories", "several", "shared"):
+        for stem in "objects telling histories several shared programs coded ending samples".split():
             for node in ast.parse((PACKAGE / f"{stem}.py").read_text()).body:
                 if isinstance(node, ast.FunctionDef) and not node.name.startswith("_"):
                     found[node.name] = " ".join(part.arg for part in node.args.args)

@@ -5,7 +5,7 @@ import unittest
 
 from helpedcalls import histories, objects, several, shared, telling
 from helpedcalls.errors import (
-    BadCall, BadHistory, BadObject, BadOrders, BadPair, BadPlans, BadState, BadWeaving, SharedError,
+    BadCall, BadHistory, BadObject, BadOrders, BadPair, BadPlans, BadState, BadWeaving,
 )
 from helpedcalls.values import are_within, is_integer, is_within, same
 from tests.examples import EqualToAll, OBJECTS
@@ -111,22 +111,6 @@ class Arguments(unittest.TestCase):
             self.assertTrue(same(function(*told), first), function.__name__)
         for function, told in ANY_SUCH:
             self.assertIsNotNone(function(*told), function.__name__)
-
-    def test_lists_are_not_changed_where_tuples_are_taken(self):
-        def listed(value):
-            return [listed(part) for part in value] if isinstance(value, tuple) else value
-
-        for function, told in FITTING + ANY_SUCH:
-            for place, value in enumerate(told):
-                if isinstance(value, tuple):
-                    row = list(told)
-                    row[place] = listed(value)
-                    kept = copy.deepcopy(row)
-                    try:
-                        function(*row)
-                    except SharedError:
-                        pass
-                    self.assertEqual(row, kept, function.__name__)
 
     def test_answers_that_are_lists_are_new_ones(self):
         found = telling.tellings(COUNTER)
